@@ -11,8 +11,22 @@ def fits(number, width):
     return number < 1 << width
 
 
-def amiss_asked(e, widths):
-    """The places at which the parts of an expression aren't as wide as it asks."""
+def told_width(e, widths):
+    """How wide an expression is, by how wide its parts are."""
+    word = e[0]
+    if word in ("num", "cut"):
+        return e[2]
+    if word in ("same", "below", "bit"):
+        return 1
+    if word == "sum":
+        return 1 + max(widths)
+    if word == "join":
+        return sum(widths)
+    return widths[-1]
+
+
+def amiss_itself(e, widths):
+    """The places of an expression that are amiss by how wide its parts are."""
     word = e[0]
     parts = parts_of(e)
     amiss = []
@@ -28,21 +42,9 @@ def amiss_asked(e, widths):
         amiss.append(e[1])
     if word == "bit" and e[2] >= widths[0]:
         amiss.append(e[1])
+    if told_width(e, widths) > WIDEST_EXPRESSION:
+        amiss.append(e[1])
     return amiss
-
-
-def told_width(e, widths):
-    """How wide an expression is, by how wide its parts are."""
-    word = e[0]
-    if word in ("num", "cut"):
-        return e[2]
-    if word in ("same", "below", "bit"):
-        return 1
-    if word == "sum":
-        return 1 + max(widths)
-    if word == "join":
-        return sum(widths)
-    return widths[-1]
 
 
 def width_of(scope, e, amiss):
@@ -53,11 +55,10 @@ def width_of(scope, e, amiss):
     if e[0] == "name":
         return scope.width(e[2])
     widths = [width_of(scope, part, amiss) for part in parts_of(e)]
+    # Of what stands around something amiss nothing is asked.
     if None in widths:
         return None
-    wrong = amiss_asked(e, widths)
-    if not wrong and told_width(e, widths) > WIDEST_EXPRESSION:
-        wrong = [e[1]]
+    wrong = amiss_itself(e, widths)
     amiss.extend(wrong)
     return None if wrong else told_width(e, widths)
 
