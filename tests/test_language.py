@@ -235,6 +235,14 @@ class Interface(unittest.TestCase):
         "faces": ("face_of(tree)",),
         "looking": ("look(design)", "wide(design, module, e)", "clocks(design, module, e)"),
         "flat": ("flat_of(design, top)",),
+        "beats": ("told(flat, beats)", "wave_of(flat, beats, path)"),
+        "nets": ("net_of(flat)",),
+        "gates": ("gate_waves(net, beats, ins)",),
+        "netchecks": ("net_holds(flat, thing)",),
+        "turns": ("turned(net, turn)",),
+        "laying": ("laid(net, table)",),
+        "laychecks": ("laid_holds(net, table, thing)", "joined_holds(flat, table, thing)"),
+        "slowest": ("slowest(net, laying, clock, *, delays=DELAYS)",),
     }
 
     def test_defined_there(self):

@@ -1,6 +1,7 @@
 """A design made flat: one row behind the other, without uses."""
 
 from wiretongue.errors import Ring
+from wiretongue.flatrows import wires_named
 from wiretongue.reading import read_module
 from wiretongue.rings import ring_in
 
@@ -11,17 +12,6 @@ def bare(e, ahead):
         return ("name", ahead + e[2])
     parts = [bare(part, ahead) if isinstance(part, tuple) else part for part in e[2:]]
     return (e[0], *parts)
-
-
-def paths_in(e):
-    """The paths that a flat expression names, in order."""
-    if e[0] == "name":
-        return [e[1]]
-    paths = []
-    for part in e[1:]:
-        if isinstance(part, tuple):
-            paths.extend(paths_in(part))
-    return paths
 
 
 class Place:
@@ -87,12 +77,6 @@ def rows_at(trees, place):
         else:
             told.extend([(flat, (place.module, number)) for flat in flat_row(place, row)])
     return told
-
-
-def wires_named(flat):
-    """By each wire's path the paths of wires in its expression."""
-    wires = {row[1]: row[3] for row in flat if row[0] == "wire"}
-    return {path: [named for named in paths_in(wires[path]) if named in wires] for path in wires}
 
 
 def flat_of(design, top):

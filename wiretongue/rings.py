@@ -1,10 +1,11 @@
-"""Rings of names, each of which follows the one ahead."""
+"""Rings of names, each of which follows the one ahead, and their order where there is none."""
 
 
 def ring_from(start, follows, ended):
     """A ring that the ways from a name come upon, () where there is none.
 
-    What no ring can be reached from any more is put to ended.
+    What no ring can be reached from any more is put to ended, behind all that
+    it follows.
     """
     way = [start]
     while way:
@@ -26,3 +27,12 @@ def ring_in(follows):
         if ring:
             return ring
     return ()
+
+
+def ordered(follows):
+    """The names, each behind those that it follows, where no ring is."""
+    ended = {}
+    for name in follows:
+        if name not in ended:
+            ring_from(name, follows, ended)
+    return list(ended)
