@@ -147,6 +147,10 @@ class Formed(Asked):
             self.fails(but(NET, more=((word, 0),)))
             self.fails(but(NET, more=((word, 0, 0),)))
             self.fails(but(NET, more=((word,),)))
+            self.fails(but(NET, more=((word, "c", 0, 0),)))
+            flat = (("in", "x", 1, "c"),)
+            self.fails((((word, "x", 0),), (("x", 0, GONE),), ()), flat)
+            self.fails((((word, 1),), (("x", 0, GONE),), ()), flat)
 
     def test_gates_of_too_many_or_too_few_parts(self):
         for gate in ((), ("is",), ("is", 0, 0), ("in",), ("in", "x"), ("in", "x", 0, 0), ("box",), ("box", "c", 1),
@@ -164,7 +168,13 @@ class Formed(Asked):
         for path, k in (("x", 2), ("x", -1), ("x", True), ("x", False), ("x", None), ("x", "0"), ("z", 0), ("", 0),
                         ("b", 0), ("w", 0), ("y", 0), (None, 0), (0, 0), (["x"], 0), (("x",), 0), ({}, 0)):
             self.fails(but(NET, more=(("in", path, k),)))
-        # So they aren't refused for being there twice.
+        # One bit by two gates is refused though each claim be right.
+        lone = (("in", "x", 1, "c"), ("out", "y", 1, ("name", "x")))
+        for g, where in ((0, ("gate", 0)), (1, ("gate", 1)), (0, GONE), (1, GONE)):
+            net = ((("in", "x", 0), ("in", "x", 0)), (("x", 0, where), ("y", 0, ("gate", g))), ("y",))
+            self.fails(net, lone)
+            self.assertIs(net_holds(lone, (net[0][:1], net[1], ("y",))), g == 0)
+        # So these aren't refused for being there twice.
         lone = (("in", "x", 1, "c"),)
         for k in (1, True, False):
             self.fails(((("in", "x", k),), (("x", 0, GONE),), ()), lone)
@@ -246,6 +256,12 @@ class Formed(Asked):
         self.fails((GATES, TRACES[:4] + (("y", 1, ("gate", 5)),), ("y",)))
         self.fails((GATES, (("a", 0, ("gate", 2)),) + TRACES[1:], ("y",)))
         self.fails((GATES, TRACES[:1] + (("w", -1, ("gate", 4)),) + TRACES[2:], ("y",)))
+
+    def test_one_bit_twice_and_another_left_out(self):
+        flat = (("in", "x", 3, "c"),)
+        for ks in ((0, 0, 2), (0, 1, 1), (0, 0, 0), (1, 1, 2), (0, 2, 2), (0, 1, 3), (0, 2, 1)):
+            self.fails(((), tuple(("x", k, GONE) for k in ks), ()), flat)
+        self.holds(((), tuple(("x", k, GONE) for k in range(3)), ()), flat)
 
     def test_traces_of_other_parts(self):
         for trace in (("b", 0), ("b", 0, ("gate", 2), 0), ("b", 0, "gate"), ("b", "0", ("gate", 2)), (None, 0, ("gate", 2)),

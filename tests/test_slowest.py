@@ -141,6 +141,10 @@ class Slowest(unittest.TestCase):
         self.assertEqual(repr(slowest(net, laying, "c")), repr((0, (), (0, 3, 0))))
         self.assertEqual(repr(slowest(((), (), ()), ((), ()), "c")), repr((0, (), ())))
 
+    def test_an_in_called_as_the_clock(self):
+        net, laying = in_a_row(("in", "c", 0), ("not", 0), ("box", "d", 0, 1))
+        self.assertEqual(slowest(net, laying, "c"), (0, (), (0, 3, 0)))
+
     def test_a_gate_with_one_feed_by_two_ways(self):
         net = ((("in", "x", 0), ("xor", 0, 0), ("box", "c", 0, 1)), (), ())
         cells = ((0, 0), (0, 1), (0, 2))

@@ -38,7 +38,7 @@ def rows_of(flat, word):
 
 def has_path(flat, thing):
     """Whether a thing is the path of a row."""
-    return isinstance(thing, str) and thing in [row[1] for row in flat]
+    return thing in [row[1] for row in flat]
 
 
 def first_bit(box, k):

@@ -47,9 +47,8 @@ def are_gates(flat, thing):
 
 def is_where(thing, many):
     """Whether a thing tells where a bit leads in a net of so many gates."""
-    if thing == ("gone",) or is_always(thing):
-        return True
-    return is_tuple(thing, 2) and thing[0] == "gate" and is_whole(thing[1], many)
+    led = is_tuple(thing, 2) and thing[0] == "gate" and is_whole(thing[1], many)
+    return led or is_always(thing) or thing == ("gone",)
 
 
 def is_trace(thing, path, k, many):

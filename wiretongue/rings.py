@@ -8,14 +8,16 @@ def ring_from(start, follows, ended):
     it follows.
     """
     way = [start]
+    come = {start: True}
     while way:
         after = [name for name in follows[way[-1]] if name not in ended]
         if not after:
             ended[way.pop()] = True
-        elif after[0] in way:
+        elif after[0] in come:
             return tuple(way[way.index(after[0]):])
         else:
             way.append(after[0])
+            come[after[0]] = True
     return ()
 
 
