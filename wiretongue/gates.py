@@ -50,4 +50,4 @@ def gate_waves(net, beats, ins):
         # All take at once, so what they take is told before any has taken it.
         boxed = {g: bits[gates[g][3]] if gates[g][1] in clocks else bits[g] for g in boxes}
         by_beats.append(bits)
-    return tuple([tuple([bits[g] for bits in by_beats]) for g in range(len(gates))])
+    return tuple([tuple([told[g] for told in by_beats]) for g in range(len(gates))])
