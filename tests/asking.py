@@ -127,3 +127,33 @@ FLATS = {
     "chosen": flat_rows("clock c", "in s 1 c", "in x 2 c", "in z 2 c", "wire p 2 pick s x z",
                         "out y 2 c pick same x z num 2 3 p", "out u 1 c bit 1 or p not x"),
 }
+
+
+def nested(many):
+    """A tuple so deep."""
+    told = ()
+    for _ in range(many):
+        told = (told,)
+    return told
+
+
+OTHERS = (None, True, False, "", "x", "0", "gone", -1, 10 ** 39, (), ((),), [], [()], {}, {"x": 1}, {0: ()}, [{}],
+          ({},), nested(30), (0,) * 2000, "~" * 8000, "a\nb", " ")
+
+
+def altered(thing):
+    """Things of the same sort with one part put otherwise, at every depth."""
+    if isinstance(thing, tuple):
+        yield list(thing) if thing else None
+        yield thing + (0,)
+        for k, part in enumerate(thing):
+            yield thing[:k] + thing[k + 1:]
+            yield thing[:k] + (part,) + thing[k:]
+            for other in altered(part):
+                yield thing[:k] + (other,) + thing[k + 1:]
+            if k:
+                yield thing[:k - 1] + (part, thing[k - 1]) + thing[k + 1:]
+    elif isinstance(thing, int):
+        yield from (thing + 1, thing - 1, str(thing), None, (thing,), bool(thing))
+    elif isinstance(thing, str):
+        yield from (thing + "x", thing[1:], None, 0)

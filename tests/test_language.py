@@ -243,6 +243,19 @@ class Interface(unittest.TestCase):
         "laying": ("laid(net, table)",),
         "laychecks": ("laid_holds(net, table, thing)", "joined_holds(flat, table, thing)"),
         "slowest": ("slowest(net, laying, clock, *, delays=DELAYS)",),
+        "slowchecks": ("slowest_holds(net, laying, clock, thing, *, delays=DELAYS)",),
+        "waves": ("Waves",),
+        "stands": ("Stand",),
+        "things": ("show_thing(thing)", "read_thing(text)"),
+    }
+    METHODS = {
+        "waves": ("__init__(self, flat, net, beats)", "wave(self, path)", "lacking(self, path)", "gates(self, path)",
+                  "names_at(self, gate)", "paths(self, by=None)", "__len__(self)", "__eq__(self, other)"),
+        "stands": ("__init__(self, design=(), *, top=TOP, turns=TURNS, table=TABLE, delays=DELAYS)",
+                   "put(self, name, text)", "out(self, name)", "make(self)", "made(self)", "paper(self)", "flat(self)",
+                   "whence(self, path)", "run(self, beats)", "waves(self, beats)", "slowest(self, clock)",
+                   "led(self, clock)", "design(self)", "options(self)", "stale(self)", "__len__(self)",
+                   "__eq__(self, other)", "__str__(self)"),
     }
 
     def test_defined_there(self):
@@ -254,6 +267,14 @@ class Interface(unittest.TestCase):
                     defined.append(f"{node.name}({ast.unparse(node.args)})")
             for told in listed:
                 self.assertIn(told, defined, stem)
+
+    def test_methods_stand_in_their_class(self):
+        for stem, listed in self.METHODS.items():
+            tree = ast.parse((PACKAGE / f"{stem}.py").read_text())
+            methods = [f"{node.name}({ast.unparse(node.args)})" for told in tree.body if isinstance(told, ast.ClassDef)
+                       for node in told.body if isinstance(node, ast.FunctionDef)]
+            for told in listed:
+                self.assertIn(told, methods, stem)
 
 
 if __name__ == "__main__":

@@ -10,52 +10,78 @@ from wiretongue.scopes import Scope
 from wiretongue.widths import amiss_widths, width_of
 
 
-def amiss_reading(text):
-    """The place at which a text can't be read, if there is one."""
+def tree_of(text):
+    """A text's tree, None where it can't be read."""
     try:
-        read_module(text)
+        return read_module(text)
+    except NoText:
+        return None
+
+
+def faces_of(trees):
+    """By name the face of each module, None where it can't be read."""
+    return {name: None if trees[name] is None else face_of(trees[name]) for name in trees}
+
+
+def uses_of(tree):
+    """The modules that a tree uses, in order."""
+    return [row[2] for row in tree if row[0] == "use"]
+
+
+def amiss_in(text, faces):
+    """The places that are amiss in a module by itself, beside the faces of all: by stage."""
+    try:
+        scope = Scope(read_module(text), faces)
     except NoText as refusal:
-        return [refusal.place]
-    return []
+        return {"read": [refusal.place]}
+    names = amiss_names(scope)
+    if names:
+        # Widths and clocks can be asked only where each name stands for something.
+        return {"name": names}
+    return {"width": amiss_widths(scope), "clock": amiss_clocks(scope)}
 
 
-def scopes_of(design):
-    """The scope of each module, by name, of a design that can be read."""
-    trees = {name: read_module(text) for name, text in design}
-    faces = {name: face_of(trees[name]) for name in trees}
-    return {name: Scope(trees[name], faces) for name in trees}
-
-
-def uses_of(scopes):
-    """By each module the modules that it uses."""
-    return {name: [row[2] for row in scopes[name].tree if row[0] == "use"] for name in scopes}
-
-
-def refuse_least(stage, amiss):
-    """Fault at the least place of the least module in which any is amiss."""
+def refuse_least(stage, found):
+    """Fault at the least place of the least module in which any is amiss at a stage."""
+    amiss = {name: found[name].get(stage, []) for name in found}
     modules = [name for name in amiss if amiss[name]]
     if modules:
         least = min(modules)
         raise Fault(stage, least, min(amiss[least]))
 
 
-def look(design):
-    """None of a right design; else Fault of the first stage amiss, or Nested."""
-    refuse_least("read", {name: amiss_reading(text) for name, text in design})
-    scopes = scopes_of(design)
-    refuse_least("name", {name: amiss_names(scopes[name]) for name in scopes})
-    ring = ring_in(uses_of(scopes))
+def refuse(found, trees):
+    """Fault of the first stage at which any was found amiss, or Nested, if either is due.
+
+    Found stands by module what is amiss in it, by stage.
+    """
+    refuse_least("read", found)
+    refuse_least("name", found)
+    ring = ring_in({name: uses_of(trees[name]) for name in trees})
     if ring:
         raise Nested(ring)
-    refuse_least("width", {name: amiss_widths(scopes[name]) for name in scopes})
-    refuse_least("clock", {name: amiss_clocks(scopes[name]) for name in scopes})
+    refuse_least("width", found)
+    refuse_least("clock", found)
+
+
+def look(design):
+    """None of a right design; else Fault of the first stage amiss, or Nested."""
+    trees = {name: tree_of(text) for name, text in design}
+    faces = faces_of(trees)
+    refuse({name: amiss_in(text, faces) for name, text in design}, trees)
+
+
+def scope_of(design, module):
+    """The scope of a module of a right design."""
+    trees = {name: read_module(text) for name, text in design}
+    return Scope(trees[module], faces_of(trees))
 
 
 def wide(design, module, e):
     """How wide an expression is, in a module of a right design."""
-    return width_of(scopes_of(design)[module], e, [])
+    return width_of(scope_of(design, module), e, [])
 
 
 def clocks(design, module, e):
     """The clocks that an expression has, rising, in a module of a right design."""
-    return tuple(clocks_of(scopes_of(design)[module], e))
+    return tuple(clocks_of(scope_of(design, module), e))

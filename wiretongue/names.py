@@ -18,14 +18,15 @@ def amiss_handed(number, use, face):
     return amiss
 
 
+def amiss_missing(tree, faces):
+    """The places at which a tree uses a module that isn't there."""
+    return [(number, 2) for number, row in enumerate(tree) if row[0] == "use" and row[2] not in faces]
+
+
 def amiss_use(scope, number, use):
-    """The places of a use that are amiss by the module that it uses."""
-    if use[2] not in scope.faces:
-        return [(number, 2)]
+    """The places of a use that are amiss by the face of its module, if that is told."""
     face = scope.face_used(use)
-    if face is None:
-        return []
-    return amiss_handed(number, use, face)
+    return [] if face is None else amiss_handed(number, use, face)
 
 
 def amiss_row(scope, number, row):
@@ -45,7 +46,7 @@ def amiss_row(scope, number, row):
 
 def amiss_names(scope):
     """The places of a module that are amiss by their names."""
-    amiss = []
+    amiss = amiss_missing(scope.tree, scope.faces)
     for number, row in enumerate(scope.tree):
         amiss.extend(amiss_row(scope, number, row))
     return amiss

@@ -9,14 +9,18 @@ def brought(arrivals, gates, ways, g, step):
     return [(arrivals[feed] + step * (len(way) - 1), feed) for feed, way in zip(feeds_of(gates[g]), ways[g])]
 
 
+def own_delay(gate, delays):
+    """What a not, and, or, xor takes itself."""
+    return delays[1] if gate[0] == "not" else delays[2]
+
+
 def arrivals_of(gates, ways, delays):
     """When each gate arrives."""
-    step, one, two = delays
     arrivals = []
     for g, gate in enumerate(gates):
         if gate[0] in FED:
-            time, _ = max(brought(arrivals, gates, ways, g, step))
-            arrivals.append(time + (one if gate[0] == "not" else two))
+            time, _ = max(brought(arrivals, gates, ways, g, delays[0]))
+            arrivals.append(time + own_delay(gate, delays))
         else:
             arrivals.append(0)
     return tuple(arrivals)
