@@ -1,8 +1,9 @@
 """What several tests ask: how a refusal is told, texts of rows, flats, and what nets tell of them."""
 
 import random
-from itertools import product
+from itertools import combinations, product
 
+from wiretongue.beats import held_by_beats, told_by
 from wiretongue.errors import Fault, Nested
 from wiretongue.flat import flat_of
 from wiretongue.gates import gate_waves
@@ -157,3 +158,148 @@ def altered(thing):
         yield from (thing + 1, thing - 1, str(thing), None, (thing,), bool(thing))
     elif isinstance(thing, str):
         yield from (thing + "x", thing[1:], None, 0)
+
+
+def with_worths(flat, worths):
+    """A flat whose boxes hold other worths at first."""
+    coming = list(worths)
+    return tuple((*row[:4], coming.pop(0), *row[5:]) if row[0] == "box" else row for row in flat)
+
+
+def standing_of(*flats):
+    """What the boxes of flats hold at first."""
+    return tuple(tuple(row[4] for row in flat if row[0] == "box") for flat in flats)
+
+
+def all_beats(one, other):
+    """All beats that are told to both of two flats, rising."""
+    clocks = sorted({row[3] for row in one + other if row[0] in ("in", "box")})
+    beating = sorted(part for many in range(len(clocks) + 1) for part in combinations(clocks, many))
+    return list(product(beating, all_ins(one)))
+
+
+def behind(flat, worths, beat):
+    """(what the outs tell in a beat, what the boxes hold behind it), where they hold these worths."""
+    held = held_by_beats(with_worths(flat, worths), (beat, beat))
+    outs = tuple(held[0][row[1]][1] for row in flat if row[0] == "out")
+    return outs, tuple(held[1][row[1]][1] for row in flat if row[0] == "box")
+
+
+def standings_by_hand(one, other):
+    """(all standings that come, those of them at which an out is unlike by some ins)."""
+    came, coming, unlike = {standing_of(one, other)}, [standing_of(one, other)], set()
+    beats = all_beats(one, other)
+    while coming:
+        standing = coming.pop()
+        for beat in beats:
+            told = [behind(flat, worths, beat) for flat, worths in zip((one, other), standing)]
+            if told[0][0] != told[1][0]:
+                unlike.add(standing)
+            late = (told[0][1], told[1][1])
+            if late not in came:
+                came.add(late)
+                coming.append(late)
+    return came, unlike
+
+
+# Pairs of flats of one sort that are alike, by other rows, boxes, clocks.
+ALIKE = {
+    "the same": (FLATS["counter"], FLATS["counter"]),
+    "no ins, no boxes": (flat_rows("clock c", "out y 2 c num 2 1"), flat_rows("clock c", "out y 2 c not num 2 2")),
+    "no boxes": (flat_rows("clock c", "in x 2 c", "out y 3 c sum x num 2 1"),
+                 flat_rows("clock c", "in x 2 c", "wire w 3 sum num 1 1 x", "out y 3 c w")),
+    "no outs": (flat_rows("clock c", "in x 1 c", "box b 1 c 0 x"), flat_rows("clock c", "in x 1 c")),
+    "a box more": (flat_rows("clock c", "in x 1 c", "box b 1 c 0 x", "out y 1 c b"),
+                   flat_rows("clock c", "in x 1 c", "box m 2 c 2 sum bit 1 m num 1 0", "box q 1 c 0 x", "out y 1 c q")),
+    "turned about": (flat_rows("clock c", "in x 1 c", "box b 1 c 0 x", "out y 1 c b"),
+                     flat_rows("clock c", "in x 1 c", "box b 1 c 1 not x", "out y 1 c not b")),
+    "two for one": (flat_rows("clock c", "in x 1 c", "box n 2 c 0 cut 2 sum n x", "out y 1 c bit 1 n"),
+                    flat_rows("clock c", "in x 1 c", "box a 1 c 0 xor a x", "box b 1 c 0 xor b and a x",
+                              "out y 1 c b")),
+    "two clocks": (flat_rows("clock c", "clock d", "in x 1 c", "box b 1 c 0 x", "cross q d 0 b", "out y 1 d q"),
+                   flat_rows("clock c", "clock d", "in x 1 c", "cross q d 0 b", "out y 1 d q", "box b 1 c 0 x")),
+    "a clock of one alone": (flat_rows("clock c", "clock d", "in x 1 c", "out y 1 c x", "box b 1 d 0 not b"),
+                             flat_rows("clock c", "in x 1 c", "out y 1 c not not x")),
+    "a clock of ins alone": (flat_rows("clock c", "clock d", "in x 1 d", "box b 1 c 0 not b", "out y 1 c b"),
+                             flat_rows("clock c", "clock d", "in x 1 d", "box m 1 c 1 not m", "out y 1 c not m")),
+    "stuck": (flat_rows("clock c", "box b 2 c 2 and b num 2 2", "out y 1 c bit 0 b"),
+              flat_rows("clock c", "out y 1 c num 1 0")),
+}
+
+# Pairs that are unlike, and the beats that are told of them.
+C, NO = ("c",), ()
+UNLIKE = {
+    "at once": (flat_rows("clock c", "in x 1 c", "out y 1 c x"), flat_rows("clock c", "in x 1 c", "out y 1 c not x"),
+                ((NO, (0,)),)),
+    "at once by some ins": (flat_rows("clock c", "in x 2 c", "in z 1 c", "out y 1 c and z bit 1 x"),
+                            flat_rows("clock c", "in x 2 c", "in z 1 c", "out y 1 c num 1 0"), ((NO, (2, 1)),)),
+    "no ins": (flat_rows("clock c", "out y 1 c num 1 0"), flat_rows("clock c", "out y 1 c num 1 1"), ((NO, ()),)),
+    "by what boxes hold at first": (flat_rows("clock c", "box b 1 c 0 b", "out y 1 c b"),
+                                    flat_rows("clock c", "box b 1 c 1 b", "out y 1 c b"), ((NO, ()),)),
+    "behind one beat": (flat_rows("clock c", "in x 1 c", "box b 1 c 0 x", "out y 1 c b"),
+                        flat_rows("clock c", "in x 1 c", "out y 1 c num 1 0"), ((C, (1,)), (NO, (0,)))),
+    "behind three": (flat_rows("clock c", "box n 2 c 0 cut 2 sum n num 1 1", "out y 1 c same n num 2 3"),
+                     flat_rows("clock c", "out y 1 c num 1 0"), ((C, ()),) * 3 + ((NO, ()),)),
+    "the second out": (flat_rows("clock c", "in x 1 c", "out y 1 c x", "out z 2 c num 2 0"),
+                       flat_rows("clock c", "in x 1 c", "out y 1 c x", "out z 2 c join x num 1 0"), ((NO, (1,)),)),
+    "a high bit": (flat_rows("clock c", "in x 3 c", "out y 3 c x"),
+                   flat_rows("clock c", "in x 3 c", "out y 3 c join cut 2 x num 1 0"), ((NO, (4,)),)),
+    "one clock ahead of the other": (
+        flat_rows("clock c", "clock d", "in x 1 c", "box b 1 d 0 not b", "out y 1 d b"),
+        flat_rows("clock c", "clock d", "in x 1 c", "out y 1 d num 1 0"), ((("c", "d"), (0,)), (NO, (0,)))),
+    "clocks one behind the other": (
+        flat_rows("clock c", "clock d", "in x 1 c", "box b 1 c 0 x", "cross q d 0 b", "out y 1 d q"),
+        flat_rows("clock c", "clock d", "in x 1 c", "out y 1 d num 1 0"),
+        ((C, (1,)), (("c", "d"), (0,)), (("c", "d"), (0,)), (NO, (0,)))),
+    "a clock that only the other has": (
+        flat_rows("clock c", "out y 1 c num 1 0"),
+        flat_rows("clock c", "clock d", "box b 1 d 0 num 1 1", "cross q c 0 b", "out y 1 c q"),
+        ((("c", "d"), ()), (C, ()), (C, ()), (NO, ()))),
+    "a way back": (flat_rows("clock c", "in x 1 c", "box n 2 c 0 pick x cut 2 sum n num 1 1 num 2 0",
+                             "out y 1 c same n num 2 2"),
+                   flat_rows("clock c", "in x 1 c", "out y 1 c num 1 0"), ((C, (1,)), (C, (1,)), (NO, (0,)))),
+}
+
+
+def names_in(e):
+    """The paths that a flat e names."""
+    if e[0] == "name":
+        return {e[1]}
+    return {path for part in e[1:] if isinstance(part, tuple) for path in names_in(part)}
+
+
+def is_forced(e, k, b, known, widths):
+    """Whether bit k of an e is b by all worths of the bits of its names that aren't known."""
+    free = [(path, bit) for path in sorted(names_in(e)) for bit in range(widths[path]) if (path, bit) not in known]
+    for bits in product((0, 1), repeat=len(free)):
+        told = {**known, **dict(zip(free, bits))}
+        held = {path: (widths[path], sum(told[path, bit] << bit for bit in range(widths[path]))) for path in names_in(e)}
+        if told_by(e, held)[1] >> k & 1 != b:
+            return False
+    return True
+
+
+def why_by_hand(flat, beats, path, k, n, steps):
+    """Whether steps that are formed as they should be are a why, reckoned by all words of the document."""
+    rows = {row[1]: row for row in flat}
+    widths = {row[1]: row[2] for row in flat}
+    ins = [row[1] for row in flat if row[0] == "in"]
+    ahead = {}
+    for name, bit, m, b in steps:
+        row = rows[name]
+        if (name, bit, m) in ahead:
+            return False
+        if row[0] == "in":
+            due = beats[m][1][ins.index(name)] >> bit & 1 == b
+        elif row[0] == "box" and m == 0:
+            due = row[4] >> bit & 1 == b
+        elif row[0] == "box" and row[3] not in beats[m - 1][0]:
+            due = ahead.get((name, bit, m - 1)) == b
+        else:
+            then = m - 1 if row[0] == "box" else m
+            known = {step[:2]: ahead[step] for step in ahead if step[2] == then and step[0] in names_in(row[-1])}
+            due = is_forced(row[-1], bit, b, known, widths)
+        if not due:
+            return False
+        ahead[name, bit, m] = b
+    return len(steps) > 0 and steps[-1][:3] == (path, k, n)

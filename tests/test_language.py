@@ -247,6 +247,10 @@ class Interface(unittest.TestCase):
         "waves": ("Waves",),
         "stands": ("Stand",),
         "things": ("show_thing(thing)", "read_thing(text)"),
+        "parting": ("parted(one, other, *, most=MOST)",),
+        "partchecks": ("parted_holds(one, other, thing)", "alike_holds(one, other, thing)"),
+        "whys": ("why_of(flat, beats, path, k, n)",),
+        "whychecks": ("why_holds(flat, beats, path, k, n, thing)",),
     }
     METHODS = {
         "waves": ("__init__(self, flat, net, beats)", "wave(self, path)", "lacking(self, path)", "gates(self, path)",

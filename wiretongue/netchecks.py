@@ -2,8 +2,8 @@
 
 from wiretongue.bitwise import bits_by_path, bits_taken
 from wiretongue.flatrows import first_bit, rows_of
-from wiretongue.gates import FED, told_of_feeds
 from wiretongue.netforms import is_net
+from wiretongue.worths import bits_of_gates, by_all_worths
 
 MOST_SOURCES = 8
 # What is so by all worths of some sources is so by all worths of more; so
@@ -35,28 +35,6 @@ class Hanging:
         return joined_sources(gate[1], gate[-1], MOST_SOURCES)
 
 
-class AllWorths:
-    """Tells of gates what they are by all worths of some sources: a bit for each."""
-
-    def __init__(self, sources):
-        self.places = {number: place for place, number in enumerate(sources)}
-        self.all_ones = (1 << (1 << len(sources))) - 1
-
-    def source(self, number):
-        """What a source is: by its place as many noughts as ones, in turns; of another one nought."""
-        if number not in self.places:
-            return 0
-        run = 1 << self.places[number]
-        # All ones by 1 and a run of noughts and 1 are every other run of ones.
-        return self.all_ones // ((1 << run) + 1) << run
-
-    def bit(self, gate):
-        """What a gate is whose feeds are these."""
-        if gate[0] == "is":
-            return self.all_ones if gate[1] else 0
-        return told_of_feeds(gate[0], gate[1:], self.all_ones)
-
-
 def sources_held(maker, flat, net):
     """By the path of each in and box what its bits are: sources, or what they always are."""
     gates, traces, _ = net
@@ -73,18 +51,6 @@ def sources_held(maker, flat, net):
         elif words[path] == "box":
             held.setdefault(path, []).append(maker.source(where[1] if where[0] == "gate" else own))
     return held
-
-
-def bits_of_gates(maker, gates):
-    """What each gate is."""
-    told = []
-    for g, gate in enumerate(gates):
-        if gate[0] in FED:
-            feeds = [told[feed] for feed in gate[1:]]
-            told.append(maker.bit((gate[0], *feeds)))
-        else:
-            told.append(maker.bit(gate) if gate[0] == "is" else maker.source(g))
-    return told
 
 
 def claims(maker, flat, net):
@@ -124,7 +90,7 @@ def claims_hold(flat, net):
     if None in hung:
         return False
     for sources, numbers in together(hung):
-        both = claims(AllWorths(sources), flat, net)
+        both = claims(by_all_worths(sources), flat, net)
         if any([both[number][0] != both[number][1] for number in numbers]):
             return False
     return True

@@ -42,11 +42,15 @@ def gates_traced(traces, paths):
     return [where[1] for path, _, where in traces if path in paths and where[0] == "gate"]
 
 
+def only_gates(gates, starts):
+    """The gates of starts and those that feed such, and their new numbers."""
+    numbers = {g: k for k, g in enumerate(sorted(fed_by(gates, starts)))}
+    return (tuple([with_feeds(gates[g], numbers) for g in numbers]), numbers)
+
+
 def only_fed(net, starts):
     """A net with just its ins, the gates of starts and those that feed such."""
     gates, traces, outs = net
     ins = [g for g, gate in enumerate(gates) if gate[0] == "in"]
-    kept = fed_by(gates, ins + starts)
-    numbers = {g: k for k, g in enumerate(sorted(kept))}
-    rows = tuple([with_feeds(gates[g], numbers) for g in numbers])
+    rows, numbers = only_gates(gates, ins + starts)
     return (rows, traces_by(traces, numbers), outs)

@@ -3,11 +3,7 @@
 from wiretongue.errors import NoPath
 from wiretongue.flatrows import rows_of
 from wiretongue.gates import gate_waves
-
-
-def worths_of(waves):
-    """What bits, the lowest first, are together in each beat, by what each is in each."""
-    return tuple([sum([bit << k for k, bit in enumerate(bits)]) for bits in zip(*waves)])
+from wiretongue.worths import worths_of
 
 
 class Waves:
