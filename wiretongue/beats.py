@@ -1,7 +1,7 @@
 """What the rows of a flat tell, beat by beat."""
 
 from wiretongue.errors import NoPath
-from wiretongue.flatrows import has_path, parts_of_flat, rows_of, wires_ordered
+from wiretongue.flatrows import has_path, held_behind, parts_of_flat, rows_of, wires_ordered
 
 
 def told_alike(word, one, other):
@@ -45,22 +45,29 @@ def told_by(e, held):
     return told_of_two(word, parts[0], parts[1])
 
 
+def held_in_beat(ins, boxes, others, worths, given):
+    """(the (width, worth) of each path, the worths that boxes take), by what boxes hold and ins are given."""
+    held = {row[1]: (row[2], worth) for row, worth in zip(ins + boxes, given + worths)}
+    for row in others:
+        held[row[1]] = told_by(row[3], held)
+    return (held, tuple([told_by(row[5], held)[1] for row in boxes]))
+
+
 def held_by_beats(flat, beats):
     """For each beat the (width, worth) of each path."""
     ins = rows_of(flat, "in")
     boxes = rows_of(flat, "box")
     # Outs come last, since no expression names one.
     others = wires_ordered(flat) + rows_of(flat, "out")
-    boxed = {row[1]: (row[2], row[4]) for row in boxes}
+    worths = tuple([row[4] for row in boxes])
+    # All hangs on what boxes hold and ins are given: for these it is told once.
+    known = {}
     by_beats = []
-    for clocks, worths in beats:
-        held = {path: boxed[path] for path in boxed}
-        for row, worth in zip(ins, worths):
-            held[row[1]] = (row[2], worth)
-        for row in others:
-            held[row[1]] = told_by(row[3], held)
-        # All take at once, so what they take is told before any has taken it.
-        boxed = {row[1]: told_by(row[5], held) if row[3] in clocks else held[row[1]] for row in boxes}
+    for clocks, given in beats:
+        if (worths, given) not in known:
+            known[(worths, given)] = held_in_beat(ins, boxes, others, worths, given)
+        held, taken = known[(worths, given)]
+        worths = held_behind(boxes, clocks, worths, taken)
         by_beats.append(held)
     return by_beats
 

@@ -44,3 +44,8 @@ def has_path(flat, thing):
 def first_bit(box, k):
     """What a bit of a box is at first."""
     return box[4] >> k & 1
+
+
+def held_behind(boxes, clocks, held, taken):
+    """What boxes hold behind a beat of clocks, by what they held and what they take."""
+    return tuple([late if row[3] in clocks else ahead for row, ahead, late in zip(boxes, held, taken)])

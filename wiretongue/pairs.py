@@ -55,8 +55,3 @@ def taken_by_cases(flat, taken, many):
     """By cases the worths that the boxes take, by the columns of these."""
     worths = [worths_of([bits_in(column, many) for column in taken[row[1]]]) for row in rows_of(flat, "box")]
     return [tuple([told[case] for told in worths]) for case in range(many)]
-
-
-def held_behind(boxes, clocks, held, taken):
-    """What boxes hold behind a beat of clocks, by what they held and what they take."""
-    return tuple([late if row[3] in clocks else ahead for row, ahead, late in zip(boxes, held, taken)])

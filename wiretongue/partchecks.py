@@ -2,10 +2,9 @@
 
 from wiretongue.beats import told
 from wiretongue.bitwise import bits_by_path, bits_taken
-from wiretongue.flatrows import rows_of
-from wiretongue.pairs import (
-    all_beating, all_given, clocks_of_both, first_standing, held_behind, held_columns, of_one_sort, taken_by_cases,
-)
+from wiretongue.flatrows import held_behind, rows_of
+from wiretongue.pairs import all_beating, all_given, clocks_of_both, first_standing, held_columns, of_one_sort
+from wiretongue.pairs import taken_by_cases
 from wiretongue.wholes import is_tuple, is_whole
 from wiretongue.worths import Cases
 

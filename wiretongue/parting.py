@@ -2,12 +2,11 @@
 
 from wiretongue.bitwise import bits_by_path, bits_taken
 from wiretongue.errors import TooMany, Unlike
-from wiretongue.flatrows import rows_of
+from wiretongue.flatrows import held_behind, rows_of
 from wiretongue.kinds import MOST
 from wiretongue.making import Gates
-from wiretongue.pairs import (
-    all_beating, all_given, clocks_of_both, first_standing, held_behind, held_columns, of_one_sort, taken_by_cases,
-)
+from wiretongue.pairs import all_beating, all_given, clocks_of_both, first_standing, held_columns, of_one_sort
+from wiretongue.pairs import taken_by_cases
 from wiretongue.worths import Cases, bits_in, bits_of_gates
 
 

@@ -64,7 +64,7 @@ def read_thing(text):
     # The parts of each tuple that hasn't ended; the thing itself stands in the first.
     parts = [[]]
     for k, word in enumerate(words):
-        if parts[0] and len(parts) == 1 or word == ")" and len(parts) == 1:
+        if parts[0] or (word == ")" and len(parts) == 1):
             raise NoText((0, k))
         if word == "(":
             parts.append([])

@@ -51,7 +51,8 @@ class Waves:
         names = sorted(self._wheres)
         if by is None:
             return tuple(names)
-        return tuple([path for _, path in sorted([(by(path), path) for path in names])])
+        keyed = sorted([(by(path), path) for path in names])
+        return tuple([path for _, path in keyed])
 
     def __len__(self):
         return len(self._beats)
